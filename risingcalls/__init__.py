@@ -1,0 +1,1 @@
+"""Systems of rising calls, judged for all kinds and for all foes."""

@@ -1,0 +1,79 @@
+"""The interface of the document: names, arguments, where each is defined, and what is a generator."""
+
+import importlib
+import inspect
+import unittest
+
+FUNCTIONS = {
+    "basics": """is_whole(thing, low=None, high=None); is_sequence(thing); are_sides(thing); is_lot(thing, kinds);
+        is_order(thing, many); other_side(side); check_side(side); couples_of(sides); check_couple(sides, couple);
+        check_lot(lot, kinds, side)""",
+    "marks": "groups_by(marks, names); least_names(marks)",
+    "goaltext": "goals_text(goals); read_goals(text)",
+    "rows": """is_row(row, ladder, foes); check_row(row, ladder, foes); standing_at(row); end_at(row, foes);
+        is_ended(row, foes); speaker_at(row, foes); words_of(row, foes, side); foe_words_of(row);
+        next_words(ladder, standing); all_foe_words(ladder)""",
+    "talks": "play_talk(system, couple, foe_words=()); every_talk(system, couple)",
+}
+CLASSES = {
+    "goals": {"Goals": """__init__(self, ladder, wanted, knows=(False, False)); ends_for(self, couple);
+        suits(self, couple, end, knowing); implies(self, other); kept(self, east_lot, west_lot);
+        renumbered(self, side, order); raised(self, by); without_foes(self); with_end(self, couple, end);
+        all_wanted(sides, ladder, knows=(False, False)); __eq__(self, other)"""},
+    "marks": {"Marks": """__init__(self, names, lines); value_of(self, kind, name);
+        kinds_with(self, name, least, most); renumbered(self, order); __eq__(self, other)"""},
+    "systems": {"System": """__init__(self, sides, ladder, answers, foes=False); answer_for(self, row, kind);
+        has_answer(self, row, kind); with_answer(self, row, kind, word); without_answer(self, row, kind);
+        __len__(self); __iter__(self); __eq__(self, other)"""},
+    "talks": {"Talk": "__init__(self, row, end); __eq__(self, other)",
+              "Gap": "__init__(self, row, kind); __eq__(self, other)"},
+}
+GENERATORS = ("all_foe_words", "every_talk", "rows_of", "ended_lots", "situations_of", "walk_of", "stands_from")
+CONSTANTS = {"EAST": 0, "WEST": 1, "STOP": 0, "LADDER_MOST": 6, "KINDS_MOST": 6, "COUPLES_MOST": 12}
+
+
+def parts(text):
+    return [" ".join(part.split()) for part in text.split(";")]
+
+
+class Interface(unittest.TestCase):
+    def test_functions_with_their_arguments_stand_in_their_modules(self):
+        for place, text in FUNCTIONS.items():
+            module = importlib.import_module(f"risingcalls.{place}")
+            for part in parts(text):
+                name = part.partition("(")[0]
+                thing = getattr(module, name)
+                self.assertTrue(inspect.isfunction(thing), name)
+                self.assertEqual(thing.__module__, f"risingcalls.{place}")
+                self.assertEqual(f"{name}{inspect.signature(thing)}", part)
+                self.assertEqual(inspect.isgeneratorfunction(thing), name in GENERATORS, name)
+
+    def test_methods_are_defined_in_the_classes_themselves(self):
+        for place, classes in CLASSES.items():
+            module = importlib.import_module(f"risingcalls.{place}")
+            for class_name, text in classes.items():
+                owner = getattr(module, class_name)
+                self.assertEqual(owner.__module__, f"risingcalls.{place}")
+                self.assertEqual(owner.__bases__, (object,))
+                for part in parts(text):
+                    name = part.partition("(")[0]
+                    self.assertIn(name, vars(owner))
+                    signature = inspect.signature(inspect.getattr_static(owner, name).__func__
+                                                  if name == "all_wanted" else vars(owner)[name])
+                    self.assertEqual(f"{name}{signature}", part)
+
+    def test_all_wanted_is_static_and_kinds_is_a_property(self):
+        goals = importlib.import_module("risingcalls.goals")
+        marks = importlib.import_module("risingcalls.marks")
+        self.assertIsInstance(vars(goals.Goals)["all_wanted"], staticmethod)
+        self.assertIsInstance(vars(marks.Marks)["kinds"], property)
+
+    def test_constants(self):
+        basics = importlib.import_module("risingcalls.basics")
+        for name, value in CONSTANTS.items():
+            self.assertEqual(getattr(basics, name), value)
+            self.assertIs(type(getattr(basics, name)), int)
+
+
+if __name__ == "__main__":
+    unittest.main()
