@@ -7,7 +7,7 @@ from risingcalls.errors import BadText
 from risingcalls.goals import Goals
 from risingcalls.goaltext import goals_text, read_goals
 from test_goals import many_goals, some_goals
-from worlds import Case
+from worlds import Case, changed_texts
 
 TEXT = "ladder 3\nsides 2 2\nknows yes no\n0 0: -3 0 3\n0 1: 1\n1 0: -2 -1\n1 1: 0 1 2"
 GOALS = Goals(3, [[[-3, 0, 3], [1]], [[-2, -1], [0, 1, 2]]], (True, False))
@@ -123,19 +123,10 @@ class Reading(Case):
 
     def test_a_text_is_read_exactly_if_it_is_a_text_of_goals(self):
         rng = random.Random(9)
+        texts = [goals_text(some_goals(rng, sides, ladder)) for sides in [(1, 1), (1, 2), (2, 1)] for ladder in (1, 2)
+                 for _ in range(20)]
         read = 0
-        for _ in range(4000):
-            text = list(goals_text(some_goals(rng, rng.choice([(1, 1), (1, 2), (2, 1)]), rng.choice((1, 2)))))
-            for _ in range(rng.randint(1, 2)):
-                at = rng.randrange(len(text))
-                change = rng.choice(("take", "put", "set"))
-                if change == "take":
-                    del text[at]
-                elif change == "put":
-                    text.insert(at, rng.choice("0123 -\n:yesno"))
-                else:
-                    text[at] = rng.choice("0123 -\n:")
-            text = "".join(text)
+        for text in changed_texts(rng, texts, 6000, "0123 -\n:yesno"):
             try:
                 goals = read_goals(text)
             except BadText:

@@ -14,6 +14,21 @@ FUNCTIONS = {
         is_ended(row, foes); speaker_at(row, foes); words_of(row, foes, side); foe_words_of(row);
         next_words(ladder, standing); all_foe_words(ladder)""",
     "talks": "play_talk(system, couple, foe_words=()); every_talk(system, couple)",
+    "heard": """lots_at(system, row); lots_along(system, row); rows_of(system, leap=None);
+        gaps_of(system, leap=None); is_whole_system(system, leap=None); ended_lots(system)""",
+    "turned": """renumbered_system(system, side, order); kept_system(system, east_lot, west_lot);
+        raised_system(system, by); crossed_systems(one, other)""",
+    "systemtext": "system_text(system); read_system(text)",
+    "rules": """situation_at(row, foes=False); situations_of(ladder, foes=False);
+        fits(rule, marks, kind, row, foes=False)""",
+    "books": """rule_in(book, kind, row, foes=False); answer_in(book, kind, row, foes=False); raised_book(book, by);
+        moved_up(book, number); without_rules(book, numbers); with_rule(book, number, rule)""",
+    "making": """walk_of(book, ladder, foes=False); system_from(book, ladder, foes=False);
+        silent_rules(book, ladder, foes=False); needless_rules(book, ladder, foes=False);
+        is_shadowed(book, number, ladder, foes=False); order_matters(book, number, ladder, foes=False)""",
+    "unmaking": "book_for(system, east_marks, west_marks, *, memory=True)",
+    "stands": """check_stand(goals, stand); first_stand(goals); stop_wins(goals, stand, part);
+        stand_behind(stand, part, call); stands_from(goals)""",
 }
 CLASSES = {
     "goals": {"Goals": """__init__(self, ladder, wanted, knows=(False, False)); ends_for(self, couple);
@@ -27,6 +42,12 @@ CLASSES = {
         __len__(self); __iter__(self); __eq__(self, other)"""},
     "talks": {"Talk": "__init__(self, row, end); __eq__(self, other)",
               "Gap": "__init__(self, row, kind); __eq__(self, other)"},
+    "rules": {"Rule": """__init__(self, word, tests=(), own=None, other=None, foe=None, low=0, high=None, side=None);
+        raised(self, by); __eq__(self, other)"""},
+    "books": {"Book": """__init__(self, east_marks, west_marks, rules); marks_of(self, side); __len__(self);
+        __iter__(self); __eq__(self, other)"""},
+    "making": {"NotRising": "__init__(self, row, kind, word); __eq__(self, other)"},
+    "unmaking": {"Clash": "__init__(self, row, kind, other_row, other_kind); __eq__(self, other)"},
 }
 GENERATORS = ("all_foe_words", "every_talk", "rows_of", "ended_lots", "situations_of", "walk_of", "stands_from")
 CONSTANTS = {"EAST": 0, "WEST": 1, "STOP": 0, "LADDER_MOST": 6, "KINDS_MOST": 6, "COUPLES_MOST": 12}

@@ -60,6 +60,22 @@ class Case(unittest.TestCase):
             self.assertTrue(one != other)
 
 
+def changed_texts(rng, texts, many, signs):
+    """Yield texts in which one sign or two are taken out, put in or set."""
+    for _ in range(many):
+        text = list(rng.choice(texts))
+        for _ in range(rng.randint(1, 2)):
+            at = rng.randrange(len(text))
+            change = rng.choice(("take", "put", "set"))
+            if change == "take":
+                del text[at]
+            elif change == "put":
+                text.insert(at, rng.choice(signs))
+            else:
+                text[at] = rng.choice(signs)
+        yield "".join(text)
+
+
 def lots_of(kinds):
     """All lots of so many kinds, shorter ones first."""
     return [lot for size in range(1, kinds + 1) for lot in itertools.combinations(range(kinds), size)]
