@@ -56,6 +56,11 @@ def couples_of(sides):
     return tuple([(east, west) for east in range(sides[EAST]) for west in range(sides[WEST])])
 
 
+def couples_in(lots):
+    """Return all couples of a kind of the one lot and a kind of the other, ascending."""
+    return tuple([(east, west) for east in lots[EAST] for west in lots[WEST]])
+
+
 def check_couple(sides, couple):
     """Return the couple as a tuple, or raise BadCouple."""
     if not is_sequence(couple) or len(couple) != 2:

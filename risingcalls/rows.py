@@ -77,14 +77,17 @@ def raised_word(word, by):
     return word + by if word > 0 else word
 
 
+def words_within(ladder, standing, leap):
+    """Return the words, ascending, of foes who call at most so much above what stands; None: any call."""
+    return next_words(ladder if leap is None else min(ladder, standing + leap), standing)
+
+
 def rows_behind(row, word, ladder, foes, leap=None):
     """Return the rows, ascending, that the speaker's word and then any foe's word lead to."""
     longer = row + (word,)
     if not foes:
         return (longer,)
-    standing = standing_at(longer)
-    top = ladder if leap is None else min(ladder, standing + leap)
-    return tuple([longer + (foe_word,) for foe_word in next_words(top, standing)])
+    return tuple([longer + (foe_word,) for foe_word in words_within(ladder, standing_at(longer), leap)])
 
 
 def all_foe_words(ladder):

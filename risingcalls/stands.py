@@ -1,7 +1,8 @@
 """Stands: what all who listen know when a partner is to speak."""
 
 from risingcalls.basics import EAST, WEST, all_lots, is_lot, is_sequence, is_whole, lots_with, other_side
-from risingcalls.errors import BadPart, BadStand
+from risingcalls.errors import BadPart, BadStand, BadWord
+from risingcalls.rows import end_at, may_be_said, speaker_at
 
 
 def check_stand(goals, stand):
@@ -28,10 +29,22 @@ def check_part(stand, part):
     return tuple(part)
 
 
+def check_word(goals, stand, word):
+    """Return the word, or raise BadWord if it may not be said at a checked stand."""
+    if not may_be_said(word, goals.ladder, abs(stand[2])):
+        raise BadWord(word)
+    return word
+
+
 def first_stand(goals):
     """Return the stand at which a talk begins."""
     east_lot, west_lot = all_lots(goals.sides)
     return (east_lot, west_lot, 0, EAST)
+
+
+def stand_at(row, lots, foes):
+    """Return the stand at a row at which a partner speaks, with these lots left."""
+    return (lots[EAST], lots[WEST], end_at(row, foes), speaker_at(row, foes))
 
 
 def stop_wins(goals, stand, part):

@@ -8,8 +8,8 @@ from risingcalls.heard import ended_lots, gaps_of, is_whole_system, lots_along, 
 from risingcalls.systems import System
 from risingcalls.talks import Gap
 from worlds import (
-    NO_SEQUENCE, NO_WHOLE, Case, answers_in, in_order, spoil, told_coming, told_ended, told_rows, told_speaker, told_talks,
-    worlds,
+    NO_SEQUENCE, NO_WHOLE, Case, answers_in, in_order, lots_by_words, spoil, told_coming, told_ended, told_rows,
+    told_speaker, told_talks, worlds,
 )
 
 SIDES = [(1, 1), (2, 1), (1, 2), (2, 2), (3, 2)]
@@ -23,14 +23,8 @@ def made(world):
 
 
 def told_lots(world, row):
-    """The lots at a row, by the words of [2.10]."""
     sides, _, foes, words = world
-    lots = []
-    for side in (0, 1):
-        ahead = [at for at in range(len(row)) if told_speaker(row[:at], foes) == side]
-        lots.append(tuple(kind for kind in range(sides[side])
-                          if all(words.get((row[:at], kind)) == row[at] for at in ahead)))
-    return tuple(lots)
+    return lots_by_words(words, sides, row, foes)
 
 
 def couples_talking(world, row):

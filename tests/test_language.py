@@ -153,6 +153,22 @@ class Names(unittest.TestCase):
                 self.assertNotEqual(node.func.attr, "sort", place)
 
 
+class Attributes(unittest.TestCase):
+    def test_no_attribute_is_stored_under_the_name_of_a_property_or_a_method(self):
+        properties = {node.name for _, node in nodes(ast.FunctionDef)
+                      if any(getattr(one, "id", "") == "property" for one in node.decorator_list)}
+        self.assertTrue(properties)
+        for place, node in nodes(ast.Attribute):
+            if isinstance(node.ctx, ast.Store):
+                self.assertNotIn(node.attr, properties, place)
+                self.assertNotIn(node.attr, own_methods(), place)
+
+    def test_inits_of_base_classes_are_called_in_inits(self):
+        for place, node in nodes(ast.Attribute):
+            if node.attr == "__init__":
+                self.assertEqual(node.value.id[0], node.value.id[0].upper(), place)
+
+
 class Syntax(unittest.TestCase):
     def test_what_is_not_let(self):
         barred = (ast.Global, ast.AsyncFunctionDef, ast.AsyncFor, ast.Await, ast.Div, ast.MatMult, ast.GeneratorExp)

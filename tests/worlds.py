@@ -208,6 +208,16 @@ def told_coming(words, sides, ladder, foes, leap=None):
     return sorted(found, key=lambda row: (len(row), row))
 
 
+def lots_by_words(words, sides, row, foes):
+    """The lots at a row, by the words of [2.10]."""
+    lots = []
+    for side in (0, 1):
+        ahead = [at for at in range(len(row)) if told_speaker(row[:at], foes) == side]
+        lots.append(tuple(kind for kind in range(sides[side])
+                          if all(words.get((row[:at], kind)) == row[at] for at in ahead)))
+    return tuple(lots)
+
+
 def worlds(seed, ladders, sides, foes=(False, True), shares=(0.6, 0.9, 1.0)):
     """Yield (sides, ladder, foes, words): systems for each setting."""
     rng = random.Random(seed)
