@@ -29,6 +29,28 @@ FUNCTIONS = {
     "unmaking": "book_for(system, east_marks, west_marks, *, memory=True)",
     "stands": """check_stand(goals, stand); first_stand(goals); stop_wins(goals, stand, part);
         stand_behind(stand, part, call); stands_from(goals)""",
+    "winning": """is_won(goals, stand); won_parts(goals, stand, word); winning_partings(goals, stand);
+        words_let(goals, stand, kind)""",
+    "deciding": "decide_goals(goals); count_systems(goals)",
+    "cores": "lost_cores(goals); won_lots(goals)",
+    "judging": "table_fault(goals, stands); system_fault(goals, system); fall_of(goals, stands, system)",
+    "counts": """told_within(ladder, *, ends=None, words=None, end=0); told_split(ladder, *, ends=None, words=None, end=0);
+        told_count(ladder); asked_count(ladder); least_told(kinds)""",
+    "tellers": """tell_system(kinds, ladder, others=1, *, ends=None, words=None);
+        tell_fault(system, *, ends=None, words=None, both=False)""",
+    "crowds": "crowd_of(system, kind=0, *, ends=None, words=None)",
+    "staircases": """most_both(ladder, q, *, ends=None); both_split(ladder, q, *, ends=None);
+        serves_both(ladder, p, q, *, ends=None); staircase(ladder, *, ends=None); least_both(p, q)""",
+    "bothways": "both_system(p, q, ladder, *, ends=None)",
+    "joins": "joined_systems(ladder, branches, *, silent=False); later_system(system, row)",
+    "foes": """foe_replies(ladder, standing, leap); is_won_foes(goals, stand, leap);
+        won_parts_foes(goals, stand, word, leap)""",
+    "decidingfoes": "decide_foes(goals, leap); least_leap(goals); foe_table_fault(goals, stands, leap)",
+    "beaten": """beaten_by(goals, system, leap); couples_beaten(goals, system, leap); least_beating(goals, system);
+        ends_against(system, couple, leap)""",
+    "silence": "plain_part(system); with_silence(system)",
+    "foebooks": "play_against(system, couple, book); book_along(ladder, row)",
+    "beating": "beating_book(goals, stands, system, leap)",
 }
 CLASSES = {
     "goals": {"Goals": """__init__(self, ladder, wanted, knows=(False, False)); ends_for(self, couple);
@@ -48,8 +70,14 @@ CLASSES = {
         __iter__(self); __eq__(self, other)"""},
     "making": {"NotRising": "__init__(self, row, kind, word); __eq__(self, other)"},
     "unmaking": {"Clash": "__init__(self, row, kind, other_row, other_kind); __eq__(self, other)"},
+    "deciding": {"Won": "__init__(self, system)", "Lost": "__init__(self, stands)"},
+    "judging": {"Fall": "__init__(self, row, stands, couple, label); __eq__(self, other)"},
+    "crowds": {"Crowd": "__init__(self, row, lot, label); __eq__(self, other)"},
+    "beaten": {"Beaten": "__init__(self, couple, foe_words, label, row); __eq__(self, other)"},
+    "foebooks": {"FoeBook": "__init__(self, ladder, answers); word_for(self, row); __len__(self); __eq__(self, other)"},
 }
-GENERATORS = ("all_foe_words", "every_talk", "rows_of", "ended_lots", "situations_of", "walk_of", "stands_from")
+GENERATORS = ("all_foe_words", "every_talk", "rows_of", "ended_lots", "situations_of", "walk_of", "stands_from",
+              "winning_partings")
 CONSTANTS = {"EAST": 0, "WEST": 1, "STOP": 0, "LADDER_MOST": 6, "KINDS_MOST": 6, "COUPLES_MOST": 12}
 
 
@@ -83,11 +111,13 @@ class Interface(unittest.TestCase):
                                                   if name == "all_wanted" else vars(owner)[name])
                     self.assertEqual(f"{name}{signature}", part)
 
-    def test_all_wanted_is_static_and_kinds_is_a_property(self):
+    def test_all_wanted_is_static_and_kinds_and_leap_are_properties(self):
         goals = importlib.import_module("risingcalls.goals")
         marks = importlib.import_module("risingcalls.marks")
+        foebooks = importlib.import_module("risingcalls.foebooks")
         self.assertIsInstance(vars(goals.Goals)["all_wanted"], staticmethod)
         self.assertIsInstance(vars(marks.Marks)["kinds"], property)
+        self.assertIsInstance(vars(foebooks.FoeBook)["leap"], property)
 
     def test_constants(self):
         basics = importlib.import_module("risingcalls.basics")
