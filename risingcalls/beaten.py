@@ -4,8 +4,9 @@ from risingcalls.basics import STOP, check_couple, couples_in, lots_with
 from risingcalls.errors import NotAlike
 from risingcalls.foes import check_foe_leap
 from risingcalls.heard import said_at, turns_of
-from risingcalls.judging import knows_fault, unlike_in
-from risingcalls.rows import end_at, foe_words_of, is_ended, speaker_at, standing_at
+from risingcalls.judging import knows_fault
+from risingcalls.rows import called_words, end_at, foe_order, is_ended, speaker_at, standing_at
+from risingcalls.systems import unlike_in
 from risingcalls.talks import Gap
 
 
@@ -34,20 +35,6 @@ def check_against(goals, system):
     if what is not None:
         raise NotAlike(what)
     return system
-
-
-def called_words(row):
-    """Return the foes' words of a row without the silent ones at their end."""
-    words = foe_words_of(row)
-    while words and words[-1] == STOP:
-        words = words[:-1]
-    return words
-
-
-def foe_order(row):
-    """Return what rows of one couple are put in order by: the foes' words, fewer first, then ascending."""
-    words = called_words(row)
-    return (len(words), words)
 
 
 def leap_in(row):

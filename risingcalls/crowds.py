@@ -2,10 +2,9 @@
 
 from risingcalls.basics import EAST, STOP, WEST, all_lots, check_kind
 from risingcalls.counts import allowed_ends, counts_by_words, split_at, words_left
-from risingcalls.errors import HasFoes
 from risingcalls.heard import parts_by_word
 from risingcalls.rows import speaker_at, standing_at
-from risingcalls.systems import word_said
+from risingcalls.systems import check_plain, word_said
 from risingcalls.talks import Gap
 
 
@@ -47,8 +46,7 @@ def step_along(system, kind, row, lot, split):
 
 def crowd_of(system, kind=0, *, ends=None, words=None):
     """Return the Crowd or Gap to which too many kinds of east lead; None if there are not too many."""
-    if system.foes:
-        raise HasFoes()
+    check_plain(system)
     check_kind(kind, system.sides[WEST])
     allowed = allowed_ends(system.ladder, ends)
     most = words_left(system.ladder, words)

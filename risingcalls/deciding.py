@@ -1,7 +1,7 @@
 """Deciding goals in plain talks: a system that wins, or a table that bars every system."""
 
-from risingcalls.basics import EAST, WEST, all_lots, lots_with, other_side
-from risingcalls.masks import masked_stand, masks_in, stand_of
+from risingcalls.basics import all_lots, other_side
+from risingcalls.masks import masked_after, masked_stand, masks_in, stand_of
 from risingcalls.rows import next_words
 from risingcalls.speaking import system_spoken
 from risingcalls.stands import first_stand, stand_at
@@ -35,10 +35,10 @@ def masked_behind(ladder, stand, leap):
     end, speaker = stand[2:]
     words = next_words(ladder, abs(end))
     ends = sorted({behind for word in words for behind in ends_behind(ladder, abs(end), word, leap)})
+    other = stand[other_side(speaker)]
     found = []
     for part in [mask for mask in masks_in(stand[speaker]) if mask > 0]:
-        lots = lots_with(stand[:2], speaker, part)
-        found.extend([(lots[EAST], lots[WEST], behind, other_side(speaker)) for behind in ends])
+        found.extend([masked_after(part, other, behind, speaker) for behind in ends])
     return found
 
 

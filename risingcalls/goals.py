@@ -26,6 +26,13 @@ def sides_of_lines(lines):
     return (len(lengths), lengths[0])
 
 
+def renumbered_lines(lines, side, order):
+    """Return a list of the lines in which the side's kind order[k] is called k."""
+    if side == EAST:
+        return [lines[kind] for kind in order]
+    return [[line[kind] for kind in order] for line in lines]
+
+
 def are_ends(thing, ladder):
     """Return whether a value is a list or tuple of one end or more."""
     return is_sequence(thing) and len(thing) > 0 and all([is_whole(end, -ladder, ladder) for end in thing])
@@ -98,9 +105,7 @@ class Goals:
     def renumbered(self, side, order):
         """Return the goals in which the side's kind order[k] is called k."""
         turned = check_side_order(order, self.sides[check_side(side)], side)
-        if side == EAST:
-            return Goals(self.ladder, [self.wanted[kind] for kind in turned], self.knows)
-        return Goals(self.ladder, [[line[kind] for kind in turned] for line in self.wanted], self.knows)
+        return Goals(self.ladder, renumbered_lines(self.wanted, side, turned), self.knows)
 
     def raised(self, by):
         """Return the goals with the ladder and each end raised."""

@@ -1,7 +1,7 @@
 """What is heard: the kinds that can be behind a row, and the rows that can come."""
 
 from risingcalls.basics import all_lots, is_whole, lots_with
-from risingcalls.errors import BadLeap
+from risingcalls.errors import BadLeap, HasGap
 from risingcalls.rows import check_row, is_ended, rows_behind, speaker_at
 from risingcalls.systems import word_said
 from risingcalls.talks import Gap
@@ -85,6 +85,14 @@ def gaps_of(system, leap=None):
     for turn in turns_of(system, leap):
         gaps.extend([Gap(turn[0], kind) for kind, word in said_at(system, turn) if word is None])
     return tuple(gaps)
+
+
+def check_whole(system):
+    """Return the system, or raise HasGap for its first gap."""
+    gaps = gaps_of(system)
+    if gaps:
+        raise HasGap(gaps[0].row, gaps[0].kind)
+    return system
 
 
 def is_whole_system(system, leap=None):

@@ -1,10 +1,10 @@
 """Systems joined of branches, and what a system is behind a row."""
 
 from risingcalls.basics import EAST, WEST, are_sides, check_ladder, is_sequence, is_whole
-from risingcalls.errors import BadBranch, BadRow, HasFoes
+from risingcalls.errors import BadBranch, BadRow
 from risingcalls.heard import lots_at
 from risingcalls.rows import check_row, raised_word, speaker_at, standing_at
-from risingcalls.systems import System
+from risingcalls.systems import System, check_plain
 
 BRANCHES_MOST = 6
 
@@ -66,8 +66,7 @@ def joined_systems(ladder, branches, *, silent=False):
 
 def later_system(system, row):
     """Return the system of the kinds that can be behind the row, which tells what they say from there on."""
-    if system.foes:
-        raise HasFoes()
+    check_plain(system)
     ahead = check_row(row, system.ladder, False)
     lots = lots_at(system, ahead)
     # at the end of a talk nobody speaks

@@ -6,6 +6,7 @@ from risingcalls.heard import lots_at, said_at, turns_behind
 from risingcalls.masks import masked_stand
 from risingcalls.rows import end_at, is_ended
 from risingcalls.stands import check_stand, first_stand, stand_at, stop_wins
+from risingcalls.systems import unlike_in
 from risingcalls.talks import Gap, play_talk
 from risingcalls.ways import Ways
 
@@ -48,15 +49,6 @@ def fault_in_table(goals, stands, leap):
 def table_fault(goals, stands):
     """Return the label of the first fault of a table of stands claimed to be lost, None if there is none."""
     return fault_in_table(goals, stands, 0)
-
-
-def unlike_in(goals, system, foes):
-    """Return in what the system is none for the goals and such talks, None if it is one."""
-    if system.sides != goals.sides:
-        return "sides"
-    if system.ladder != goals.ladder:
-        return "ladder"
-    return None if system.foes == foes else "foes"
 
 
 def knows_fault(knows, lots, couple):

@@ -1,6 +1,6 @@
 """Masks: lots as numbers in which the bit of each kind is set, so that parts are gone through fast."""
 
-from risingcalls.basics import EAST, KINDS_MOST, WEST
+from risingcalls.basics import EAST, KINDS_MOST, WEST, lots_with, other_side
 
 
 def mask_of(lot):
@@ -34,3 +34,9 @@ def masked_stand(stand):
 def stand_of(masked):
     """Return the stand with lots in the place of its masks."""
     return (lot_of(masked[EAST]), lot_of(masked[WEST]), masked[2], masked[3])
+
+
+def masked_after(part, other, end, speaker):
+    """Return the masked stand at which the part of the speaker and the other lot are left and the end stands."""
+    lots = lots_with((other, other), speaker, part)
+    return (lots[EAST], lots[WEST], end, other_side(speaker))

@@ -62,6 +62,20 @@ def foe_words_of(row):
     return tuple(row[1::2])
 
 
+def called_words(row):
+    """Return the foes' words of a row with foes without the silent ones at their end."""
+    words = foe_words_of(row)
+    while words and words[-1] == STOP:
+        words = words[:-1]
+    return words
+
+
+def foe_order(row):
+    """Return what rows with foes of one couple are put in order by: fewer foes' words first, then ascending."""
+    words = called_words(row)
+    return (len(words), words)
+
+
 def next_words(ladder, standing):
     """Return the words that may be said where this call stands, ascending."""
     return (STOP,) + tuple(range(standing + 1, ladder + 1))

@@ -5,20 +5,25 @@ from risingcalls.errors import BadPart, BadStand, BadWord
 from risingcalls.rows import end_at, may_be_said, speaker_at
 
 
-def check_stand(goals, stand):
-    """Return the stand as a tuple, its lots, too, or raise BadStand."""
+def check_stand_from(world, stand, low):
+    """Return the stand of a world's sides and ladder as a tuple, or raise BadStand; low is the least end."""
     if not is_sequence(stand) or len(stand) != 4:
         raise BadStand("stand")
     east_lot, west_lot, end, speaker = stand
-    if not is_lot(east_lot, goals.sides[EAST]):
+    if not is_lot(east_lot, world.sides[EAST]):
         raise BadStand("east")
-    if not is_lot(west_lot, goals.sides[WEST]):
+    if not is_lot(west_lot, world.sides[WEST]):
         raise BadStand("west")
-    if not is_whole(end, -goals.ladder, goals.ladder):
+    if not is_whole(end, low, world.ladder):
         raise BadStand("end")
     if not is_whole(speaker, EAST, WEST):
         raise BadStand("speaker")
     return (tuple(east_lot), tuple(west_lot), end, speaker)
+
+
+def check_stand(goals, stand):
+    """Return the stand as a tuple, its lots, too, or raise BadStand."""
+    return check_stand_from(goals, stand, -goals.ladder)
 
 
 def check_part(stand, part):

@@ -1,7 +1,7 @@
 """Systems: which word each kind answers to each row."""
 
 from risingcalls.basics import LADDER_MOST, are_sides, is_sequence, is_truth, is_whole
-from risingcalls.errors import BadSystem, NoAnswer
+from risingcalls.errors import BadSystem, HasFoes, NoAnswer
 from risingcalls.rows import is_row, may_be_said, speaker_at, standing_at
 
 
@@ -103,6 +103,22 @@ class System:
     def without_answer(self, row, kind):
         """Return a system without the answer to the row and the kind."""
         return System(self.sides, self.ladder, answers_but(self, row, kind), self.foes)
+
+
+def check_plain(system):
+    """Return the system, or raise HasFoes."""
+    if system.foes:
+        raise HasFoes()
+    return system
+
+
+def unlike_in(world, system, foes):
+    """Return in what the system is none for a world of such sides, ladder and talks, None if it is one."""
+    if system.sides != world.sides:
+        return "sides"
+    if system.ladder != world.ladder:
+        return "ladder"
+    return None if system.foes == foes else "foes"
 
 
 def answers_but(system, row, kind):

@@ -55,13 +55,18 @@ def play_talk(system, couple, foe_words=()):
     return Talk(row, end_at(row, system.foes))
 
 
-def talk_reading(system, couple, foe_words):
-    """Return the Talk or Gap that reads these foes' words whole, None if none does."""
+def talk_let(system, couple, foe_words):
+    """Return the Talk or Gap against these foes' words, None if foes may not say them there."""
     try:
-        result = play_talk(system, couple, foe_words)
+        return play_talk(system, couple, foe_words)
     except BadFoe:
         return None
-    return result if len(foe_words) <= len(foe_words_of(result.row)) else None
+
+
+def talk_reading(system, couple, foe_words):
+    """Return the Talk or Gap that reads these foes' words whole, None if none does."""
+    result = talk_let(system, couple, foe_words)
+    return result if result is not None and len(foe_words) <= len(foe_words_of(result.row)) else None
 
 
 def every_talk(system, couple):

@@ -2,11 +2,12 @@
 
 from risingcalls.basics import EAST, STOP, WEST, are_sides, check_ladder, couples_of
 from risingcalls.counts import allowed_ends, counts_by_words, split_at, words_left
-from risingcalls.errors import BadKinds, HasFoes
+from risingcalls.errors import BadKinds
 from risingcalls.heard import lots_at
 from risingcalls.judging import knows_fault
 from risingcalls.rows import next_words, speaker_at, standing_at
 from risingcalls.speaking import system_spoken
+from risingcalls.systems import check_plain
 from risingcalls.talks import Gap, play_talk
 
 
@@ -58,8 +59,7 @@ def telling_fault(system, couple, allowed, words, knows):
 
 def tell_fault(system, *, ends=None, words=None, both=False):
     """Return None if the system tells east's kinds, and west's if both is true; else what is wrong first."""
-    if system.foes:
-        raise HasFoes()
+    check_plain(system)
     allowed = allowed_ends(system.ladder, ends)
     most = words_left(system.ladder, words)
     for couple in couples_of(system.sides):

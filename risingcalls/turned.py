@@ -4,7 +4,7 @@ from risingcalls.basics import EAST, LADDER_MOST, WEST, all_lots, check_lot, che
 from risingcalls.basics import is_whole, lots_with
 from risingcalls.errors import BadSystem, NotAlike
 from risingcalls.rows import raised_word, speaker_at
-from risingcalls.systems import System
+from risingcalls.systems import System, unlike_in
 
 
 def system_with_kinds(system, lots):
@@ -46,13 +46,15 @@ def answers_of_side(system, side):
     return [answer for answer in system.answers if speaker_at(answer[0], system.foes) == side]
 
 
+def check_alike(one, other):
+    """Raise NotAlike if two systems differ in sides, ladder or foes."""
+    what = unlike_in(one, other, one.foes)
+    if what is not None:
+        raise NotAlike(what)
+
+
 def crossed_systems(one, other):
     """Return the system in which east answers as in the one, west as in the other."""
-    if one.sides != other.sides:
-        raise NotAlike("sides")
-    if one.ladder != other.ladder:
-        raise NotAlike("ladder")
-    if one.foes != other.foes:
-        raise NotAlike("foes")
+    check_alike(one, other)
     answers = answers_of_side(one, EAST) + answers_of_side(other, WEST)
     return System(one.sides, one.ladder, answers, one.foes)

@@ -1,7 +1,8 @@
 """Ways: in how many ways the speaker's lot can be parted such that no part is lost by its word."""
 
 from risingcalls.basics import EAST, STOP, WEST, lots_with, other_side
-from risingcalls.masks import is_several, lot_of, mask_of, masked_stand, masks_in
+from risingcalls.masks import is_several, lot_of, mask_of, masked_after, masked_stand, masks_in
+from risingcalls.partings import words_parted
 from risingcalls.rows import next_words, words_within
 
 
@@ -47,10 +48,9 @@ class Ways:
             return 1
         if word == STOP and not self.may_stop(part, other, end, speaker):
             return 0
-        lots = lots_with((other, other), speaker, part)
         worth = 1
         for behind in ends_behind(self.goals.ladder, abs(end), word, self.reach):
-            worth = worth * self.worth((lots[EAST], lots[WEST], behind, other_side(speaker)))
+            worth = worth * self.worth(masked_after(part, other, behind, speaker))
         return worth
 
     def may_stop(self, part, other, end, speaker):
@@ -103,23 +103,14 @@ class Ways:
     def words_at(self, stand):
         """Return (kind, word) for the kinds of the speaker's lot in some parting that counts."""
         end, speaker = stand[2:]
-        rest, other = stand[speaker], stand[other_side(speaker)]
-        said = []
-        for word in next_words(self.goals.ladder, abs(end)):
-            shares = self.shares_above(other, max(abs(end), word), speaker)
-            part = self.part_saying(rest, stand, word, shares)
-            said.extend([(kind, word) for kind in lot_of(part)])
-            rest = rest ^ part
-        return said
-
-    def part_saying(self, rest, stand, word, shares):
-        """Return a part of the rest that may say the word such that what is left can share out the others."""
-        end, speaker = stand[2:]
         other = stand[other_side(speaker)]
-        for part in masks_in(rest):
-            if rest ^ part in shares and self.part_worth(part, other, end, speaker, word) > 0:
-                return part
-        return 0
+
+        def choose(rest, word):
+            shares = self.shares_above(other, max(abs(end), word), speaker)
+            parts = [part for part in masks_in(rest) if rest ^ part in shares]
+            return [part for part in parts if self.part_worth(part, other, end, speaker, word) > 0][0]
+
+        return words_parted(stand[speaker], next_words(self.goals.ladder, abs(end)), choose)
 
 
 def greatest_parts(ways, stand, word):

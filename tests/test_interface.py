@@ -51,6 +51,21 @@ FUNCTIONS = {
     "silence": "plain_part(system); with_silence(system)",
     "foebooks": "play_against(system, couple, book); book_along(ladder, row)",
     "beating": "beating_book(goals, stands, system, leap)",
+    "foecounts": """foe_count(ladder, leap); least_ladder(kinds, leap); foe_counts(ladder);
+        foe_system(kinds, ladder, leap)""",
+    "costs": "floor_of(costs, weights); cheapest_goals(costs, weights); as_goals(costs, cost)",
+    "prices": """price_of(costs, weights, stand); best_system(costs, weights); price_fault(costs, weights, table);
+        best_parts(costs, weights)""",
+    "totals": """total_of(costs, weights, system); mean_of(costs, weights, system);
+        dearest_couple(costs, weights, system); worst_of(costs, system); excesses_of(costs, weights, system);
+        is_best(costs, weights, system)""",
+    "mixtures": "mixed_total(costs, weights, mixture); purest_of(costs, weights, mixture)",
+    "dear": "worst_best(costs); worst_fault(costs, worst)",
+    "alike": """first_parting(one, other); are_alike(one, other); unlike_end(one, other); same_ends(one, other);
+        unlike_lots(one, other); same_knowledge(one, other)""",
+    "knowing": """needless_answers(system); trimmed_system(system); couples_at(system, row);
+        knows_at(system, row, side, kind); first_told(system, couple, side, foe_words=()); does_tell(system, side);
+        first_apart(system, side, kind, other)""",
 }
 CLASSES = {
     "goals": {"Goals": """__init__(self, ladder, wanted, knows=(False, False)); ends_for(self, couple);
@@ -75,7 +90,16 @@ CLASSES = {
     "crowds": {"Crowd": "__init__(self, row, lot, label); __eq__(self, other)"},
     "beaten": {"Beaten": "__init__(self, couple, foe_words, label, row); __eq__(self, other)"},
     "foebooks": {"FoeBook": "__init__(self, ladder, answers); word_for(self, row); __len__(self); __eq__(self, other)"},
+    "costs": {"Costs": """__init__(self, ladder, lines); cut(self, ladder); added(self, amount);
+                  renumbered(self, side, order); __eq__(self, other)""",
+              "Weights": """__init__(self, lines); even(sides); plus(self, other); times(self, size);
+                  renumbered(self, side, order); __eq__(self, other)"""},
+    "prices": {"Best": "__init__(self, total, system, table)"},
+    "mixtures": {"Mixture": "__init__(self, shares, systems)"},
+    "dear": {"Worst": "__init__(self, cost, system, table)"},
+    "alike": {"Parting": "__init__(self, couple, foe_words, row); __eq__(self, other)"},
 }
+STATIC = ("all_wanted", "even")
 GENERATORS = ("all_foe_words", "every_talk", "rows_of", "ended_lots", "situations_of", "walk_of", "stands_from",
               "winning_partings")
 CONSTANTS = {"EAST": 0, "WEST": 1, "STOP": 0, "LADDER_MOST": 6, "KINDS_MOST": 6, "COUPLES_MOST": 12}
@@ -108,16 +132,16 @@ class Interface(unittest.TestCase):
                     name = part.partition("(")[0]
                     self.assertIn(name, vars(owner))
                     signature = inspect.signature(inspect.getattr_static(owner, name).__func__
-                                                  if name == "all_wanted" else vars(owner)[name])
+                                                  if name in STATIC else vars(owner)[name])
                     self.assertEqual(f"{name}{signature}", part)
 
-    def test_all_wanted_is_static_and_kinds_and_leap_are_properties(self):
-        goals = importlib.import_module("risingcalls.goals")
-        marks = importlib.import_module("risingcalls.marks")
-        foebooks = importlib.import_module("risingcalls.foebooks")
-        self.assertIsInstance(vars(goals.Goals)["all_wanted"], staticmethod)
-        self.assertIsInstance(vars(marks.Marks)["kinds"], property)
-        self.assertIsInstance(vars(foebooks.FoeBook)["leap"], property)
+    def test_static_methods_and_properties(self):
+        for place, owner, name, sort in (
+                ("goals", "Goals", "all_wanted", staticmethod), ("costs", "Weights", "even", staticmethod),
+                ("marks", "Marks", "kinds", property), ("foebooks", "FoeBook", "leap", property),
+                ("costs", "Weights", "weight_sum", property)):
+            module = importlib.import_module(f"risingcalls.{place}")
+            self.assertIsInstance(vars(getattr(module, owner))[name], sort)
 
     def test_constants(self):
         basics = importlib.import_module("risingcalls.basics")

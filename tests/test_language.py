@@ -15,6 +15,7 @@ LET_BUILTINS = set("""len range enumerate zip min max sum abs sorted reversed in
 LET_METHODS = set("""append clear copy count endswith extend find get index insert isalnum isalpha isdigit islower
     isspace isupper items join keys ljust lower lstrip partition pop remove replace reverse rfind rjust rpartition
     rsplit rstrip setdefault split splitlines startswith strip update upper values zfill bit_length""".split())
+LET_LIBRARY = {"math": ("gcd",)}
 LET_DUNDERS = {"__init__", "__eq__", "__len__", "__iter__"}
 BARRED = set("""register mro elements open input law version_info with_traceback add_note type typing enum Generic
     Protocol ABC namedtuple attrgetter breakpoint compile delattr dir eval exec exit gc getattr globals hasattr help
@@ -100,7 +101,7 @@ class Files(unittest.TestCase):
 
 class Names(unittest.TestCase):
     def test_imports_name_the_defining_file_and_are_used(self):
-        defined = {f"risingcalls.{name[:-3]}": top_names(tree) for name, tree in trees()}
+        defined = {**LET_LIBRARY, **{f"risingcalls.{name[:-3]}": top_names(tree) for name, tree in trees()}}
         for name, tree in trees():
             for module, thing in imports(tree):
                 self.assertIn(module, defined, name)
@@ -111,7 +112,8 @@ class Names(unittest.TestCase):
         self.assertFalse([place for place, node in nodes(ast.ImportFrom) if node.level or node.names[0].asname])
 
     def test_no_two_files_import_from_each_other(self):
-        needs = {f"risingcalls.{name[:-3]}": {module for module, _ in imports(tree)} for name, tree in trees()}
+        needs = {f"risingcalls.{name[:-3]}": {module for module, _ in imports(tree)} - set(LET_LIBRARY)
+                 for name, tree in trees()}
         while needs:
             free = [name for name in needs if not needs[name]]
             self.assertTrue(free, needs)
