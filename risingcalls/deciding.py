@@ -3,8 +3,8 @@
 from risingcalls.basics import all_lots, other_side
 from risingcalls.masks import masked_after, masked_stand, masks_in, stand_of
 from risingcalls.rows import next_words
-from risingcalls.speaking import system_spoken
-from risingcalls.stands import first_stand, stand_at
+from risingcalls.speaking import system_by_stands
+from risingcalls.stands import first_stand
 from risingcalls.ways import Ways, ends_behind
 
 
@@ -61,11 +61,7 @@ def decision(goals, foes, leap):
     ways = Ways(goals, all_lots(goals.sides), leap)
     if ways.worth(masked_stand(first_stand(goals))) == 0:
         return Lost(lost_stands(ways))
-
-    def speak(row, lots):
-        return ways.words_at(masked_stand(stand_at(row, lots, foes)))
-
-    return Won(system_spoken(goals.sides, goals.ladder, speak, foes, leap))
+    return Won(system_by_stands(goals, ways, foes, leap))
 
 
 def decide_goals(goals):

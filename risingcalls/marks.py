@@ -1,6 +1,6 @@
 """Marks: numbers of one side's kinds under names, for the rules of a book."""
 
-from risingcalls.basics import KINDS_MOST, check_kind, is_order, is_sequence, is_whole
+from risingcalls.basics import KINDS_MOST, all_picks, check_kind, is_order, is_sequence, is_whole
 from risingcalls.errors import BadMarks, BadOrder
 
 NAMES_MOST = 4
@@ -79,14 +79,6 @@ def groups_by(marks, names):
         numbers = tuple([marks.value_of(kind, name) for name in known])
         groups[numbers] = groups.get(numbers, ()) + (kind,)
     return tuple([groups[numbers] for numbers in groups])
-
-
-def all_picks(many):
-    """Return all picks of so many places: fewer places first, then by their places."""
-    picks = [()]
-    for place in range(many):
-        picks = picks + [pick + (place,) for pick in picks]
-    return sorted(picks, key=lambda pick: (len(pick), pick))
 
 
 def least_names(marks):

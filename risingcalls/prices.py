@@ -6,8 +6,8 @@ from risingcalls.errors import BadStand
 from risingcalls.masks import lot_of, mask_of, masked_after, masked_stand, masks_in
 from risingcalls.partings import cheapest_part, sharing, words_parted
 from risingcalls.rows import next_words
-from risingcalls.speaking import system_spoken
-from risingcalls.stands import check_stand_from, first_stand, stand_at, stands_behind, stands_from
+from risingcalls.speaking import system_by_stands
+from risingcalls.stands import check_stand_from, first_stand, stands_behind, stands_from
 
 
 class Best:
@@ -117,11 +117,7 @@ def best_system(costs, weights):
     """Return the Best that any plain system can do."""
     check_weights(costs, weights)
     prices = Prices(costs, weights)
-
-    def speak(row, lots):
-        return prices.words_at(masked_stand(stand_at(row, lots, False)))
-
-    system = system_spoken(costs.sides, costs.ladder, speak)
+    system = system_by_stands(costs, prices)
     table = [(stand, prices.price_at(masked_stand(stand))) for stand in stands_from(costs)]
     return Best(prices.price_at(masked_stand(first_stand(costs))), system, tuple(table))
 

@@ -104,6 +104,22 @@ def rows_behind(row, word, ladder, foes, leap=None):
     return tuple([longer + (foe_word,) for foe_word in words_within(ladder, standing_at(longer), leap)])
 
 
+def rows_to(ladder, foes):
+    """Return a list of all rows of the ladder, but for those at a foe's turn, by length, then by words."""
+    found = [()]
+    rows = [()]
+    while rows:
+        longer = [
+            behind
+            for row in rows
+            for word in next_words(ladder, standing_at(row))
+            for behind in rows_behind(row, word, ladder, foes)
+        ]
+        found.extend(longer)
+        rows = [row for row in longer if not is_ended(row, foes)]
+    return found
+
+
 def all_foe_words(ladder):
     """Yield the words that foes may have for a talk, without silence at the end, by length."""
     yield ()

@@ -3,7 +3,7 @@
 from risingcalls.basics import EAST, LADDER_MOST, WEST, check_kind, check_ladder, is_sequence, is_whole, other_side
 from risingcalls.errors import BadRaise, BadRow, BadRule
 from risingcalls.marks import NUMBER_MOST, is_name
-from risingcalls.rows import check_row, is_ended, next_words, rows_behind, speaker_at, standing_at, words_of
+from risingcalls.rows import check_row, rows_to, speaker_at, standing_at, words_of
 
 NONE = "none"
 TESTS_MOST = 4
@@ -115,27 +115,11 @@ def situation_at(row, foes=False):
     return (speaker, own, other, foe, standing_at(words))
 
 
-def partner_rows(ladder, foes):
-    """Return a list of all rows of the ladder at which a side speaks, by length, then by words."""
-    found = []
-    rows = [()]
-    while rows:
-        found.extend(rows)
-        longer = [
-            behind
-            for row in rows
-            for word in next_words(ladder, standing_at(row))
-            for behind in rows_behind(row, word, ladder, foes)
-        ]
-        rows = [row for row in longer if not is_ended(row, foes)]
-    return found
-
-
 def situations_of(ladder, foes=False):
     """Yield the situations of all rows of the ladder at which a side speaks, each once."""
     check_ladder(ladder)
     seen = {}
-    for row in partner_rows(ladder, foes):
+    for row in [row for row in rows_to(ladder, foes) if speaker_at(row, foes) is not None]:
         situation = situation_at(row, foes)
         if situation not in seen:
             seen[situation] = True

@@ -41,6 +41,18 @@ def rule_for(view, word, marks):
     return Rule(word, tests, own, other, foe, standing, standing, speaker)
 
 
+def firsts_of_views(system, see):
+    """Return a dict of the first needed answer of each view see(row, kind), or the Clash of two unlike words."""
+    firsts = {}
+    for row, kind, word in needed_answers(system):
+        view = see(row, kind)
+        if view not in firsts:
+            firsts[view] = (row, kind, word)
+        elif firsts[view][2] != word:
+            return Clash(row, kind, firsts[view][0], firsts[view][1])
+    return firsts
+
+
 def book_for(system, east_marks, west_marks, *, memory=True):
     """Return a Book with these marks that has the system, or the Clash or Gap that bars all."""
     if system.sides[EAST] != east_marks.kinds or system.sides[WEST] != west_marks.kinds:
@@ -49,12 +61,8 @@ def book_for(system, east_marks, west_marks, *, memory=True):
     if gaps:
         return gaps[0]
     marks = (east_marks, west_marks)
-    firsts = {}
-    for row, kind, word in needed_answers(system):
-        view = view_of(system, marks, row, kind, memory)
-        if view not in firsts:
-            firsts[view] = (row, kind, word)
-        elif firsts[view][2] != word:
-            return Clash(row, kind, firsts[view][0], firsts[view][1])
+    found = firsts_of_views(system, lambda row, kind: view_of(system, marks, row, kind, memory))
+    if isinstance(found, Clash):
+        return found
     # a Book itself refuses more rules than it may have
-    return Book(east_marks, west_marks, [rule_for(view, firsts[view][2], marks) for view in firsts])
+    return Book(east_marks, west_marks, [rule_for(view, found[view][2], marks) for view in found])

@@ -66,6 +66,20 @@ FUNCTIONS = {
     "knowing": """needless_answers(system); trimmed_system(system); couples_at(system, row);
         knows_at(system, row, side, kind); first_told(system, couple, side, foe_words=()); does_tell(system, side);
         first_apart(system, side, kind, other)""",
+    "habits": "system_of_habit(habit); asked_entries(habit); tidied(habit); habit_of(system)",
+    "finding": "choices_of(goals); find_habit(goals); no_habit_fault(goals, tables); habits_for(goals)",
+    "watchers": """fitting(pool, talks); sure_word(pool, talks, row, kind); next_couple(pool, talks); ask_plan(pool);
+        least_questions(pool); plan_depth(plan); plan_fault(pool, plan); told_by(plan, system)""",
+    "slips": """count_slips(system, row, couple); told_with_slips(system, row, most); ended_rows(ladder, foes=False);
+        ends_with_slips(system, couple, most); slips_to_end(system, couple, end); find_clash(system, most);
+        slip_room(system)""",
+    "slipwins": """slip_fault(goals, system, most); first_slip_stand(goals); is_slip_won(goals, stand, most);
+        decide_slips(goals, most); slip_table_fault(goals, most, stands); most_slips(goals)""",
+    "changes": "system_after(system, changes)",
+    "mends": """first_denied(system, wishes); least_mends(system, pool, wishes);
+        find_spoilers(system, pool, wishes)""",
+    "nearest": """fewest_changes(goals, system, *, only=None);
+        change_price(goals, system, row, east_lot, west_lot, *, only=None)""",
 }
 CLASSES = {
     "goals": {"Goals": """__init__(self, ladder, wanted, knows=(False, False)); ends_for(self, couple);
@@ -98,10 +112,22 @@ CLASSES = {
     "mixtures": {"Mixture": "__init__(self, shares, systems)"},
     "dear": {"Worst": "__init__(self, cost, system, table)"},
     "alike": {"Parting": "__init__(self, couple, foe_words, row); __eq__(self, other)"},
+    "habits": {"Habit": """__init__(self, sides, ladder, east_words, west_words); word_at(self, side, kind, standing);
+                   with_word(self, side, kind, standing, word); __eq__(self, other)""",
+               "TwoWords": "__init__(self, side, kind, row, other_row); __eq__(self, other)"},
+    "finding": {"NoHabit": "__init__(self, tables); __eq__(self, other)"},
+    "watchers": {"Pool": "__init__(self, systems); __len__(self); __eq__(self, other)",
+                 "Told": "__init__(self, numbers); __eq__(self, other)",
+                 "Plan": "__init__(self, couple, onward); __eq__(self, other)"},
+    "slips": {"SlipClash": "__init__(self, row, one, other); __eq__(self, other)"},
+    "mends": {"Spoiler": "__init__(self, pick, extra, denied); __eq__(self, other)"},
+    "nearest": {"Fewest": "__init__(self, number, changes); __eq__(self, other)"},
+    "bench": {"Bench": """__init__(self, system); put(self, change); take_back(self, number); trial(self);
+        tried(self, work); __len__(self); __iter__(self)"""},
 }
 STATIC = ("all_wanted", "even")
 GENERATORS = ("all_foe_words", "every_talk", "rows_of", "ended_lots", "situations_of", "walk_of", "stands_from",
-              "winning_partings")
+              "winning_partings", "choices_of", "habits_for", "ended_rows")
 CONSTANTS = {"EAST": 0, "WEST": 1, "STOP": 0, "LADDER_MOST": 6, "KINDS_MOST": 6, "COUPLES_MOST": 12}
 
 

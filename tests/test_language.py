@@ -11,12 +11,12 @@ import risingcalls
 
 FOLDER = os.path.dirname(risingcalls.__file__)
 LET_BUILTINS = set("""len range enumerate zip min max sum abs sorted reversed int str bool list tuple dict set
-    isinstance ord repr any all divmod iter next map ValueError property staticmethod""".split())
+    isinstance ord repr any all divmod iter next map super ValueError property staticmethod""".split())
 LET_METHODS = set("""append clear copy count endswith extend find get index insert isalnum isalpha isdigit islower
     isspace isupper items join keys ljust lower lstrip partition pop remove replace reverse rfind rjust rpartition
     rsplit rstrip setdefault split splitlines startswith strip update upper values zfill bit_length""".split())
 LET_LIBRARY = {"math": ("gcd",)}
-LET_DUNDERS = {"__init__", "__eq__", "__len__", "__iter__"}
+LET_DUNDERS = {"__init__", "__eq__", "__len__", "__iter__", "__enter__", "__exit__"}
 BARRED = set("""register mro elements open input law version_info with_traceback add_note type typing enum Generic
     Protocol ABC namedtuple attrgetter breakpoint compile delattr dir eval exec exit gc getattr globals hasattr help
     id os quit setattr sys vars locals hash next format""".split())
