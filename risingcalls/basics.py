@@ -1,6 +1,6 @@
 """Whole numbers, sides, couples, lots and orders."""
 
-from risingcalls.errors import BadCouple, BadKind, BadLadder, BadLot, BadSide, TooWide
+from risingcalls.errors import BadCouple, BadKind, BadLadder, BadLot, BadSide
 
 EAST = 0
 WEST = 1
@@ -83,34 +83,6 @@ def check_ladder(ladder, most=LADDER_MOST):
     if not is_whole(ladder, 0, most):
         raise BadLadder()
     return ladder
-
-
-def check_width(goals, ladder, together, each=KINDS_MOST):
-    """Return the goals, or raise TooWide.
-
-    Neither is the ladder above this one nor are there more kinds of a side than each, nor of both sides
-    together than so many at just this ladder.
-    """
-    wide = goals.ladder == ladder and sum(goals.sides) > together
-    if wide or goals.ladder > ladder or max(goals.sides) > each:
-        raise TooWide()
-    return goals
-
-
-def choices_from(options):
-    """Return a list of all tuples with a thing of each option, in their order; ascending if the options are."""
-    found = [()]
-    for things in options:
-        found = [choice + (thing,) for choice in found for thing in things]
-    return found
-
-
-def all_picks(many):
-    """Return all picks of so many places: fewer places first, then by their places."""
-    picks = [()]
-    for place in range(many):
-        picks = picks + [pick + (place,) for pick in picks]
-    return sorted(picks, key=lambda pick: (len(pick), pick))
 
 
 def are_kinds(thing, kinds):

@@ -60,7 +60,7 @@ def bars_less(costs, cost, table):
     """Return whether a table bars every system that keeps all couples below the cost; None where none is due."""
     if cost <= least_cost_let(costs):
         return table is None
-    return table is not None and table_fault(as_goals(costs, cost - 1), table) is None
+    return table_fault(as_goals(costs, cost - 1), table) is None
 
 
 def worst_fault(costs, worst):

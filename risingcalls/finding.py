@@ -1,10 +1,12 @@
 """Finding habits that win goals, or the tables that bar all habits."""
 
-from risingcalls.basics import EAST, STOP, WEST, all_lots, check_width, choices_from, is_sequence, is_whole, other_side
+from risingcalls.basics import EAST, STOP, WEST, all_lots, is_sequence, is_whole, other_side
 from risingcalls.deciding import lost_stands
+from risingcalls.goals import check_width
 from risingcalls.habits import Habit, habit_of, system_of_habit, tidied
 from risingcalls.judging import system_fault, table_of
 from risingcalls.masks import lot_of, mask_of, masked_stand
+from risingcalls.picks import choices_from
 from risingcalls.rows import next_words
 from risingcalls.speaking import system_by_stands
 from risingcalls.stands import first_stand
@@ -125,7 +127,6 @@ def choice_fault(goals, choice, stands):
 
 def no_habit_fault(goals, tables):
     """Return the label of the first fault of tables that are said to bar all habits, None if there is none."""
-    check_width(goals, WIDE_LADDER, KINDS_TOGETHER)
     if not are_choice_pairs(goals, tables):
         return "choices"
     for choice, stands in tables:

@@ -47,7 +47,7 @@ def least_ladder(kinds, leap):
 def foe_system(kinds, ladder, leap):
     """Return a system with foes that tells so many kinds of east to one of west against foes of the leap."""
     check_ladder(ladder)
-    check_foe_leap(ladder, leap)
-    if not is_whole(kinds, 1, min(KINDS_MOST, foe_count(ladder, leap))):
+    most = min(KINDS_MOST, foe_count(ladder, leap))
+    if not is_whole(kinds, 1, most):
         raise BadKinds()
     return decide_foes(Goals.all_wanted((kinds, 1), ladder, (False, True)), leap).system

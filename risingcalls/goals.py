@@ -2,6 +2,7 @@
 
 from risingcalls.basics import (
     EAST,
+    KINDS_MOST,
     LADDER_MOST,
     WEST,
     are_sides,
@@ -13,7 +14,7 @@ from risingcalls.basics import (
     is_truth,
     is_whole,
 )
-from risingcalls.errors import BadEnd, BadGoals, NotAlike
+from risingcalls.errors import BadEnd, BadGoals, NotAlike, TooWide
 
 
 def sides_of_lines(lines):
@@ -137,3 +138,15 @@ class Goals:
             raise BadGoals("sides")
         ends = list(range(-ladder, ladder + 1))
         return Goals(ladder, [[ends] * sides[WEST]] * sides[EAST], knows)
+
+
+def check_width(goals, ladder, together, each=KINDS_MOST):
+    """Return the goals, or raise TooWide.
+
+    They are too wide if their ladder is above this one, if it is just this one and both sides have more kinds
+    together than so many, or if a side has more kinds than each may have.
+    """
+    wide = goals.ladder == ladder and sum(goals.sides) > together
+    if wide or goals.ladder > ladder or max(goals.sides) > each:
+        raise TooWide()
+    return goals

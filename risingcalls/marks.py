@@ -1,7 +1,8 @@
 """Marks: numbers of one side's kinds under names, for the rules of a book."""
 
-from risingcalls.basics import KINDS_MOST, all_picks, check_kind, is_order, is_sequence, is_whole
+from risingcalls.basics import KINDS_MOST, check_kind, is_order, is_sequence, is_whole
 from risingcalls.errors import BadMarks, BadOrder
+from risingcalls.picks import all_picks
 
 NAMES_MOST = 4
 LETTERS_MOST = 8

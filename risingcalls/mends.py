@@ -1,6 +1,6 @@
 """Mends: wishes for plain systems, and which changes of a pool meet them."""
 
-from risingcalls.basics import EAST, WEST, all_picks, is_sequence, is_whole
+from risingcalls.basics import EAST, WEST, is_sequence, is_whole
 from risingcalls.changes import check_changes, system_behind
 from risingcalls.costs import Costs, Weights
 from risingcalls.errors import BadChange, BadWish
@@ -8,6 +8,7 @@ from risingcalls.goals import Goals
 from risingcalls.heard import ended_lots, is_whole_system
 from risingcalls.judging import system_fault
 from risingcalls.knowing import does_tell
+from risingcalls.picks import all_picks
 from risingcalls.rows import standing_at
 from risingcalls.slipwins import slip_fault
 from risingcalls.systems import check_plain

@@ -1,7 +1,6 @@
 """Mixtures: one of several plain systems is drawn by shares before the talk."""
 
 from risingcalls.basics import is_sequence, is_whole
-from risingcalls.costs import check_weights
 from risingcalls.errors import BadMixture
 from risingcalls.heard import is_whole_system
 from risingcalls.systems import System, unlike_in
@@ -37,7 +36,6 @@ class Mixture:
 
 def totals_in(costs, weights, mixture):
     """Return a list of the totals of the mixture's systems."""
-    check_weights(costs, weights)
     return [total_of(costs, weights, system) for system in mixture.systems]
 
 

@@ -1,7 +1,8 @@
 """Nearest systems: the fewest changed answers behind which a plain system wins."""
 
-from risingcalls.basics import EAST, STOP, WEST, all_lots, check_lot, check_side, check_width, lots_with, other_side
+from risingcalls.basics import EAST, STOP, WEST, all_lots, check_lot, check_side, lots_with, other_side
 from risingcalls.errors import BadRow, NotAlike
+from risingcalls.goals import check_width
 from risingcalls.masks import lot_of, mask_of, masks_in
 from risingcalls.partings import cheapest_part, sharing, words_parted
 from risingcalls.rows import is_row, next_words, speaker_at, standing_at
@@ -33,7 +34,7 @@ class ChangePrices:
         self.ways = Ways(goals, all_lots(goals.sides))
         self._prices = {}
 
-    def price_at(self, row, lots):
+    def least_at(self, row, lots):
         """Return the least number of changes with which these lots win from the row on, None if they cannot."""
         place = (row, lots[EAST], lots[WEST])
         if place not in self._prices:
@@ -46,12 +47,12 @@ class ChangePrices:
         found = {}
         shares = {0: 0}
         for word in next_words(self.system.ladder, standing_at(row))[::-1]:
-            prices = self.prices_of_parts(row, lots, word)
+            prices = self.part_prices(row, lots, word)
             found[word] = (prices, shares)
             shares = sharing(shares, prices)
         return found
 
-    def prices_of_parts(self, row, lots, word):
+    def part_prices(self, row, lots, word):
         """Return a dict of the least number of changes for each mask of the speaker's that can win by the word."""
         found = {0: 0}
         for part in [mask for mask in masks_in(lots[speaker_at(row, False)]) if mask > 0]:
@@ -73,9 +74,9 @@ class ChangePrices:
         if word == STOP:
             may_stop = self.ways.may_stop(part, lots[other_side(speaker)], standing_at(row), speaker)
             return 0 if may_stop else None
-        return self.price_at(row + (word,), lots_with(lots, speaker, part))
+        return self.least_at(row + (word,), lots_with(lots, speaker, part))
 
-    def words_at(self, row, lots):
+    def words_for(self, row, lots):
         """Return (kind, word) for the kinds of the speaker's lot with which the changes are fewest."""
         sharings = self.sharings_at(row, lots)
 
@@ -111,7 +112,7 @@ def changes_in(prices, goals):
     turns = [((), full_masks(goals))]
     while turns:
         row, lots = turns.pop()
-        said = prices.words_at(row, lots)
+        said = prices.words_for(row, lots)
         changes.extend([
             ("answer", row, kind, word) for kind, word in said if word_said(prices.system, row, kind) != word
         ])
@@ -126,7 +127,7 @@ def fewest_changes(goals, system, *, only=None):
     side = check_only(only)
     check_nearby(goals, system)
     prices = ChangePrices(goals, system, side)
-    number = prices.price_at((), full_masks(goals))
+    number = prices.least_at((), full_masks(goals))
     return None if number is None else Fewest(number, tuple(changes_in(prices, goals)))
 
 
@@ -138,4 +139,4 @@ def change_price(goals, system, row, east_lot, west_lot, *, only=None):
     if not is_row(row, goals.ladder, False) or speaker_at(row, False) is None:
         raise BadRow()
     check_nearby(goals, system)
-    return ChangePrices(goals, system, side).price_at(tuple(row), (mask_of(east), mask_of(west)))
+    return ChangePrices(goals, system, side).least_at(tuple(row), (mask_of(east), mask_of(west)))

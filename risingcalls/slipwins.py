@@ -1,8 +1,10 @@
 """Winning with slips: what systems win, and the tables of slip stands that bar all systems."""
 
-from risingcalls.basics import EAST, STOP, WEST, check_width, choices_from, is_sequence, is_whole, lots_with, other_side
+from risingcalls.basics import EAST, STOP, WEST, is_sequence, is_whole, lots_with, other_side
 from risingcalls.deciding import Lost, Won
 from risingcalls.errors import BadSlipStand, TooWide
+from risingcalls.goals import check_width
+from risingcalls.picks import choices_from
 from risingcalls.rows import end_at, is_ended, next_words, rows_to, speaker_at
 from risingcalls.slips import check_most, couples_within, is_slip
 from risingcalls.systems import System, unlike_in
@@ -116,10 +118,10 @@ class SlipWins:
     def is_word_won(self, stand, lots, word):
         """Return whether the word is won, behind which these numbers are left."""
         if word == STOP:
-            return self.may_stop(lots, stand[2])
+            return self.may_end(lots, stand[2])
         return self.is_stand_won((lots[EAST], lots[WEST], word, other_side(stand[3])))
 
-    def may_stop(self, lots, end):
+    def may_end(self, lots, end):
         """Return whether it is right for all couples left that the talk ends so."""
         east, west = lots
         couples = [
@@ -245,6 +247,5 @@ def slip_table_fault(goals, most, stands):
 
 def most_slips(goals):
     """Return the greatest number of slips, up to 3, with which the goals are won, None if there is none."""
-    check_slip_width(goals, 0)
     won = [most for most in range(SLIPS_MOST + 1) if is_slip_won(goals, first_slip_stand(goals), most)]
     return max(won, default=None)

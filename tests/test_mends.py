@@ -87,7 +87,8 @@ class Wishes(Case):
         goals, costs, even = Goals.all_wanted((1, 2), 2), Costs(2, [[[1, 1, 1]] * 2]), Weights.even((1, 2))
         odd_goals = [None, (), Goals.all_wanted((2, 1), 2), Goals.all_wanted((1, 2), 1), costs]
         odds = [("won",), ("won", goals, 0), ("slips", goals), ("slips", goals, 0, 0), ("ends",), ("ends", 1, 1), ("tells",),
-                ("total", costs, even), ("total", costs, even, 0, 0), ("win", goals), (None, goals), (["won"], goals)]
+                ("total", costs, even), ("total", costs, even, 0, 0), ("win", goals), ("tell", 1), ("end", 1),
+                ("slip", goals, 0), ("sum", costs, even, 0), (None, goals), (["won"], goals)]
         odds += [("won", odd) for odd in odd_goals] + [("slips", odd, 0) for odd in odd_goals]
         odds += [("slips", goals, odd) for odd in (*NO_WHOLE, -1)] + [("ends", odd) for odd in (*NO_WHOLE, -1, 3)]
         odds += [("tells", odd) for odd in (*NO_WHOLE, -1, 2)] + [("total", costs, even, odd) for odd in (*NO_WHOLE, -1)]
